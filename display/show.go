@@ -15,7 +15,6 @@ import (
 	"abugida/page"
 	"abugida/parts"
 	"abugida/picture"
-	"abugida/shape"
 )
 
 // A piece is shaped by itself.
@@ -49,12 +48,23 @@ func (d *Display) pieces(cores []api.Core) iter.Seq[piece] {
 	}
 }
 
+// glyphsOf returns the glyphs of the items of a cluster.
+func glyphsOf(items []api.Item, c int) []int {
+	var l []int
+	for _, i := range items {
+		if i.Cluster == c {
+			l = append(l, i.Glyph)
+		}
+	}
+	return l
+}
+
 // certain yields the glyphs of each certain cluster of the piece, with its number in the paragraph.
 func (p piece) certain() iter.Seq2[int, []int] {
 	return func(yield func(int, []int) bool) {
 		items, certain := maybe.Run(p.known, p.text, p.set.Features)
 		for c, is := range certain {
-			if is && !yield(p.first+c, shape.Cluster(items, c)) {
+			if is && !yield(p.first+c, glyphsOf(items, c)) {
 				return
 			}
 		}
