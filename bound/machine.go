@@ -6,7 +6,7 @@ import (
 )
 
 // A span is the range of a number: its least and its greatest value.
-type span = [2]int
+type span [2]int
 
 func join(a, b span) span { return span{min(a[0], b[0]), max(a[1], b[1])} }
 
@@ -252,8 +252,8 @@ func (v *prover) table() map[int]operation {
 		api.OpDup:  {1, func(m *state, _ int) api.Errno { a := m.take(); return v.give(m, a, a) }},
 		api.OpSwap: {2, func(m *state, _ int) api.Errno { a, b := m.take2(); return v.give(m, b, a) }},
 		api.OpLess: {2, func(m *state, _ int) api.Errno { a, b := m.take2(); return v.give(m, lessThan(a, b)) }},
-		api.OpSize: {0, func(m *state, _ int) api.Errno { return v.give(m, v.sizes) }},
-		api.OpAxis: {0, func(m *state, n int) api.Errno { return v.give(m, v.axes[n]) }},
+		api.OpSize: {0, func(m *state, _ int) api.Errno { return v.give(m, span(v.sizes)) }},
+		api.OpAxis: {0, func(m *state, n int) api.Errno { return v.give(m, span(v.axes[n])) }},
 		api.OpGetX: {0, func(m *state, n int) api.Errno { return get(n, 0, m) }},
 		api.OpGetY: {0, func(m *state, n int) api.Errno { return get(n, 1, m) }},
 		api.OpSetX: {1, func(m *state, n int) api.Errno { return set(n, 0, m) }},

@@ -97,7 +97,7 @@ func writeDelta(d api.Delta) string {
 }
 
 func readDelta(r *wire.Reader, region int) api.Delta {
-	return api.Delta{Region: region, Advance: r.Int(), Moves: groups(r.Ints(), 2, func(n []int) [2]int { return [2]int(n) })}
+	return api.Delta{Region: region, Advance: r.Int(), Moves: groups(r.Ints(), 2, func(n []int) [2]int { return [2]int{n[0], n[1]} })}
 }
 
 func each[T any](l []T, one func(T) T) []T {
@@ -108,14 +108,16 @@ func each[T any](l []T, one func(T) T) []T {
 	return out
 }
 
-func cloneSets(l [][]int) [][]int { return each(l, slices.Clone) }
+func cloneSet(l []int) []int                 { return slices.Clone(l) }
+func cloneSets(l [][]int) [][]int            { return each(l, cloneSet) }
+func cloneContour(l []api.Point) []api.Point { return slices.Clone(l) }
 
 func cloneRule(r api.Rule) api.Rule {
 	return api.Rule{Back: cloneSets(r.Back), In: cloneSets(r.In), Ahead: cloneSets(r.Ahead), Out: slices.Clone(r.Out), Calls: slices.Clone(r.Calls)}
 }
 
 func cloneGlyph(g api.Glyph) api.Glyph {
-	out := api.Glyph{Contours: each(g.Contours, slices.Clone), Anchors: slices.Clone(g.Anchors), Hang: g.Hang, Advance: g.Advance, Program: slices.Clone(g.Program)}
+	out := api.Glyph{Contours: each(g.Contours, cloneContour), Anchors: slices.Clone(g.Anchors), Hang: g.Hang, Advance: g.Advance, Program: slices.Clone(g.Program)}
 	out.Deltas = each(g.Deltas, func(d api.Delta) api.Delta {
 		return api.Delta{Region: d.Region, Advance: d.Advance, Moves: slices.Clone(d.Moves)}
 	})

@@ -20,7 +20,7 @@ func (p *player) makeFont(a *arguments) {
 	require(k >= 0 && k < slots, api.ErrNone)
 	f, n, e := source.Parse(strings.ReplaceAll(text, ";", "\n"))
 	if e != api.OK {
-		p.print(with("line", n)+" error", int(e))
+		p.printLine(with("line", n)+" error", int(e))
 		return
 	}
 	f = parts.Rooted(f)

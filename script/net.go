@@ -60,7 +60,7 @@ func (p *player) load(a *arguments) {
 	for _, one := range plain(f, parts.Keys(f)) {
 		r.Keep(one)
 	}
-	p.print("kept", r.Many())
+	p.printLine("kept", r.Many())
 }
 
 func (p *player) serve(a *arguments) {
@@ -90,7 +90,7 @@ func (p *player) want(a *arguments) {
 			p.lines.Send(p.time, api.Message{From: screen, To: n, Text: text})
 		}
 	}
-	p.print("asked", many)
+	p.printLine("asked", many)
 }
 
 // takeAll lets the display take the patches of a message.
@@ -105,7 +105,7 @@ func (p *player) takeAll(m api.Message) {
 			taken++
 		}
 	}
-	p.print(with("0 took", taken) + " " + with("of", len(l)))
+	p.printLine(with("0 took", taken) + " " + with("of", len(l)))
 }
 
 // servedFont returns the first font that is served under a name and a version.
@@ -123,14 +123,14 @@ func (p *player) answer(m api.Message) {
 	name, version, keys, ok := relay.Asked(m.Text)
 	f, serves := p.servedFont(name, version)
 	if !ok || !serves {
-		p.print("1 told", 0)
+		p.printLine("1 told", 0)
 		return
 	}
 	own := parts.Keys(f)
 	known := slices.DeleteFunc(keys, func(k api.Key) bool { return !slices.Contains(own, k) })
 	l := plain(f, known)
 	p.lines.Send(p.time, api.Message{From: server, To: m.From, Text: relay.Told(l)})
-	p.print("1 told", len(l))
+	p.printLine("1 told", len(l))
 }
 
 // passOn lets a relay take a message.
@@ -139,7 +139,7 @@ func (p *player) passOn(m api.Message) {
 	for _, answer := range r.Take(m) {
 		p.lines.Send(p.time, answer)
 	}
-	p.print(strconv.Itoa(m.To)+" kept", r.Many())
+	p.printLine(strconv.Itoa(m.To)+" kept", r.Many())
 }
 
 func (p *player) run(a *arguments) {
@@ -148,7 +148,7 @@ func (p *player) run(a *arguments) {
 	for range max(0, min(n, maxRuns)) {
 		m, time, ok := p.lines.Next()
 		if !ok {
-			p.print("none")
+			p.printLine("none")
 			return
 		}
 		p.time = max(p.time, time)

@@ -83,14 +83,14 @@ func (p *player) show(a *arguments) {
 		e := p.panel.Write(c, panel.Cut(page, c))
 		require(e == api.OK, e)
 	}
-	p.print("updates", len(plan))
+	p.printLine("updates", len(plan))
 }
 
 func (p *player) pixels(a *arguments) {
 	a.end()
 	need(p.panel != nil)
 	for _, bits := range p.panel.Pixels() {
-		p.print(row(bits))
+		p.printLine(row(bits))
 	}
 }
 
@@ -108,7 +108,7 @@ func (p *player) seal(a *arguments) {
 	s, e := seal.Make(*p.doc, fonts, sizes, axes)
 	require(e == api.OK, e)
 	p.sealed = &s
-	p.print("parts", len(s.Parts))
+	p.printLine("parts", len(s.Parts))
 }
 
 func (p *player) check(a *arguments) {

@@ -85,7 +85,7 @@ func (p *player) move(a *arguments) {
 // none prints that there is nothing, if this is so.
 func (p *player) none(many int) {
 	if many == 0 {
-		p.print("none")
+		p.printLine("none")
 	}
 }
 
@@ -94,7 +94,7 @@ func (p *player) wants(a *arguments) {
 	need(p.display != nil)
 	l := p.display.Wants()
 	for _, o := range l {
-		p.print("want", o.Font, o.Key.Kind, o.Key.N, o.Key.Region)
+		p.printLine("want", o.Font, o.Key.Kind, o.Key.N, o.Key.Region)
 	}
 	p.none(len(l))
 }
@@ -107,7 +107,7 @@ func (p *player) places(a *arguments) {
 	need(p.display != nil)
 	l := p.display.Places()
 	for _, x := range l {
-		p.print(strings.Join([]string{strconv.Itoa(x.Para), strconv.Itoa(x.Cluster), with("font", x.Font), with("line", x.Line), with("at", x.X), with("width", x.Width)}, " "))
+		p.printLine(strings.Join([]string{strconv.Itoa(x.Para), strconv.Itoa(x.Cluster), with("font", x.Font), with("line", x.Line), with("at", x.X), with("width", x.Width)}, " "))
 	}
 	p.none(len(l))
 }
@@ -133,19 +133,19 @@ func (p *player) shown(a *arguments) {
 	for _, x := range l {
 		if x.Known {
 			b := x.Map
-			p.print(strings.Join([]string{"pixels", strconv.Itoa(b.Left), strconv.Itoa(b.Top), strconv.Itoa(b.Width), strconv.Itoa(b.Height), rows(b.Rows)}, " "))
+			p.printLine(strings.Join([]string{"pixels", strconv.Itoa(b.Left), strconv.Itoa(b.Top), strconv.Itoa(b.Width), strconv.Itoa(b.Height), rows(b.Rows)}, " "))
 		} else {
-			p.print("waiting")
+			p.printLine("waiting")
 		}
 	}
 	p.none(len(l))
 }
 
-func (p *player) copy(a *arguments) {
+func (p *player) copyText(a *arguments) {
 	from, to := a.number(), a.number()
 	a.end()
 	need(p.display != nil)
-	p.print(writeBytes(p.display.Copy(from, to)))
+	p.printLine(writeBytes(p.display.Copy(from, to)))
 }
 
 // wholes returns the bitmaps of the clusters of a paragraph with the sources, nil for those that are not whole.
@@ -200,8 +200,8 @@ func (p *player) compare(a *arguments) {
 			different = true
 		}
 	}
-	p.print(with("same", same) + " " + with("of", all))
+	p.printLine(with("same", same) + " " + with("of", all))
 	if different {
-		p.print("different")
+		p.printLine("different")
 	}
 }
