@@ -28,7 +28,7 @@ func TestNew(t *testing.T) {
 			t.Errorf("%v", x)
 		}
 	}
-	if a := New(128, 1); a == nil || a.Names() != nil {
+	if a := New(128, 1); a == nil || New(1, 128) == nil || a.Names() != nil {
 		t.Error("a new atlas")
 	}
 }

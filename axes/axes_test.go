@@ -37,6 +37,7 @@ func TestCheck(t *testing.T) {
 		{api.Axis{}, api.ErrName},
 		{change(func(a *api.Axis) { a.Name = "abcdefghij12" }), api.OK},
 		{change(func(a *api.Axis) { a.Name = "abcdefghij123" }), api.ErrName},
+		{change(func(a *api.Axis) { a.Name = "a0z9" }), api.OK},
 		{change(func(a *api.Axis) { a.Name = "1a" }), api.ErrName},
 		{change(func(a *api.Axis) { a.Name = "aB" }), api.ErrName},
 		{change(func(a *api.Axis) { a.Name = "a b"; a.Map = nil }), api.ErrName},
@@ -253,6 +254,15 @@ func TestTouches(t *testing.T) {
 	}
 	if !Touches(api.Region{}, nil) || Touches(tents([3]int{-1, 1, 2}), [][2]int{{-64, 64}}) {
 		t.Error("no axes, or no tent")
+	}
+	for _, x := range []struct {
+		tent   [3]int
+		within [2]int
+		want   bool
+	}{{[3]int{5, 5, 9}, [2]int{0, 5}, true}, {[3]int{5, 5, 9}, [2]int{0, 4}, false}, {[3]int{5, 5, 9}, [2]int{5, 5}, true}, {[3]int{2, 5, 5}, [2]int{5, 9}, true}, {[3]int{2, 5, 5}, [2]int{6, 9}, false}, {[3]int{5, 5, 5}, [2]int{5, 5}, true}} {
+		if Touches(tents(x.tent), [][2]int{x.within}) != x.want {
+			t.Errorf("Touches of %v and %v", x.tent, x.within)
+		}
 	}
 	r := rand.New(rand.NewSource(7))
 	for range 5000 {

@@ -50,7 +50,7 @@ func TestAt(t *testing.T) {
 		ins  []api.Ins
 		want api.Errno
 	}{
-		{3, nil, nil, api.ErrArg}, {33, []int{0}, nil, api.ErrArg}, {8, nil, nil, api.ErrRegion}, {8, []int{65}, nil, api.ErrAxis}, {8, []int{0}, []api.Ins{{Op: api.OpPop}}, api.ErrStack}, {8, []int{0}, []api.Ins{{Op: 99}}, api.ErrOp},
+		{3, nil, nil, api.ErrArg}, {33, []int{0}, nil, api.ErrArg}, {4, []int{0}, nil, api.OK}, {32, []int{0}, nil, api.OK}, {8, nil, nil, api.ErrRegion}, {8, []int{65}, nil, api.ErrAxis}, {8, []int{0}, []api.Ins{{Op: api.OpPop}}, api.ErrStack}, {8, []int{0}, []api.Ins{{Op: 99}}, api.ErrOp},
 		{8, []int{0}, push(9, api.OpAt, 0), api.ErrIndex}, {8, []int{0}, push(0, api.OpSetX, 5), api.ErrIndex}, {8, []int{0}, push(0, api.OpSetX, 4), api.OK},
 	} {
 		g.Program = x.ins

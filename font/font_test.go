@@ -52,6 +52,12 @@ func TestCheckCore(t *testing.T) {
 		{api.ErrVersion, func(c *api.Core) { c.Version = 1000 }},
 		{api.OK, func(c *api.Core) { c.Version = 999 }},
 		{api.ErrMany, func(c *api.Core) { c.Axes = make([]api.Axis, 4) }},
+		{api.OK, func(c *api.Core) {
+			for _, name := range []string{"b", "c"} {
+				c.Axes = append(c.Axes, api.Axis{Name: name, Map: [][2]int{{0, 0}}})
+			}
+			c.Regions[0].Tents = make([]api.Tent, 3)
+		}},
 		{api.ErrMany, func(c *api.Core) { c.Regions = make([]api.Region, 9) }},
 		{api.OK, func(c *api.Core) { c.Regions = slices.Repeat(c.Regions, 8) }},
 		{api.ErrMany, func(c *api.Core) { c.Pairs = make([]api.Pair, 61) }},

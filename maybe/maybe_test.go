@@ -139,6 +139,33 @@ func TestCalls(t *testing.T) {
 	}
 }
 
+// P27.1: where a rule with calls ends, and where the lookup goes on.
+func TestEnds(t *testing.T) {
+	for k, s := range []string{
+		"lookup 0;rule | {1} {2} | call 0:1 1:2;lookup 9;rule | {1} | >;lookup 9;rule | {2} | > 3;rule | {3} | > 4;",
+		"lookup 0;rule | {1} | call 0:1 0:2;lookup 9;rule | {1} | > 2 3;lookup 9;rule | {2} | > 4 4 4;",
+		"lookup 0;rule | {1} | call 0:1;rule | {3} | > 4;lookup 9;rule | {1} {2} {3} | > 4 1;",
+		"lookup 0;rule | {1} | call 0:1;rule | {3} | > 4;lookup 9;rule | {1} {2} | > 3;",
+		"lookup 0;rule | {1} {2} | call 0:1;rule | {3} | > 1;lookup 9;rule | {1} | > 1 1 1;",
+		"lookup 0;rule | {1} {2} {3} | call 0:1;rule | {3} | > 1;lookup 9;rule | {1} {2} | > 4;",
+		"lookup 0;rule | {1} {2} | call 0:1;rule | {3} | > 1;lookup 9;rule | {1} {2} | > 4 3;",
+		"lookup 0;rule | {1} {2} | call 0:1 1:2 0:3;lookup 9;rule | {1} | >;lookup 9;rule | {3} | > 4;lookup 9;rule | {2} | > 1;",
+	} {
+		f := parse(t, "font a 1;"+s+"char 65 1 1;char 97 2 1;char 98 3 1;"+glyphs5)
+		var all []int
+		for n := range f.Lookups {
+			all = append(all, n)
+		}
+		for _, text := range []string{"Aab", "Aabbb", "AabAab", "AAabb", "aAab", "A", "Aa", "Aaab"} {
+			want, e := shape.Run(f, text, 0)
+			got, certain := Run(with(t, f, all...), text, 0)
+			if e != api.OK || !slices.Equal(got, want) || slices.Contains(certain, false) {
+				t.Errorf("font %d, %q: %v, not %v", k, text, got, want)
+			}
+		}
+	}
+}
+
 // P27.1, P27.2
 func TestLimits(t *testing.T) {
 	var none *known.Known
@@ -155,6 +182,12 @@ func TestLimits(t *testing.T) {
 		slow += "lookup 0;" + strings.Repeat("rule | {4} | > 1;", 8)
 	}
 	late := parse(t, slow+"lookup 0;rule | {2} | > 1;char 65 1 1;char 66 2 1;"+glyphs5)
+	ten := "font a 1;"
+	for range 10 {
+		ten += "lookup 0;" + strings.Repeat("rule | {4} | > 1;", 8)
+	}
+	all := []int{0, 1, 2, 3, 4, 5, 6, 7, 8, 9}
+	exact := parse(t, ten+"char 65 1 1;"+glyphs5)
 	a := strings.Repeat("A", 130)
 	for i, x := range []struct {
 		f       api.Font
@@ -163,7 +196,7 @@ func TestLimits(t *testing.T) {
 		ok      bool
 	}{
 		{grow, []int{0, 1}, a[:100], true}, {grow, []int{0, 1}, a[:101], false}, {grow, []int{1}, a[:120], true}, {grow, []int{0, 1}, a[:121], false}, {grow, nil, a[:121], false},
-		{late, []int{0, 1, 2, 3, 4, 5, 6}, a[:107], true}, {late, []int{0, 1, 2, 3, 4, 5, 6}, a[:108], false}, {late, []int{0, 1, 2, 3, 4, 5}, a[:108], true}, {late, []int{0, 1, 2, 3, 4, 5, 6}, "B" + a[:107], false},
+		{exact, all, a[:75], true}, {exact, all, a[:76], false}, {late, []int{0, 1, 2, 3, 4, 5, 6}, a[:107], true}, {late, []int{0, 1, 2, 3, 4, 5, 6}, a[:108], false}, {late, []int{0, 1, 2, 3, 4, 5}, a[:108], true}, {late, []int{0, 1, 2, 3, 4, 5, 6}, "B" + a[:107], false},
 	} {
 		k := with(t, x.f, x.lookups...)
 		got, certain := Run(k, x.text, 0)

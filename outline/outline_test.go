@@ -108,6 +108,7 @@ func TestCheck(t *testing.T) {
 		{1, api.OK, func(g *api.Glyph) { g.Contours[0][1] = api.Point{X: 128, Y: -128} }},
 		{1, api.ErrAnchor, func(g *api.Glyph) { g.Anchors[0].Class = 0; g.Advance = -1 }},
 		{1, api.ErrAnchor, func(g *api.Glyph) { g.Anchors[0].Class = 10 }},
+		{1, api.OK, func(g *api.Glyph) { g.Anchors[0].Class = 9 }},
 		{1, api.ErrAnchor, func(g *api.Glyph) { g.Anchors[0].X = 129 }},
 		{0, api.ErrAnchor, func(g *api.Glyph) { *g = api.Glyph{Anchors: []api.Anchor{{Class: 2}, {Class: 2}}} }},
 		{1, api.ErrAnchor, func(g *api.Glyph) { g.Hang.X = 1 }},

@@ -43,6 +43,12 @@ func TestCheck(t *testing.T) {
 		{api.OK, func(d *api.Doc, c *[]api.Core) { d.Width = 400 }},
 		{api.OK, func(d *api.Doc, c *[]api.Core) { d.Width = 1 }},
 		{api.ErrMany, func(d *api.Doc, c *[]api.Core) { d.Fonts = nil }},
+		{api.OK, func(d *api.Doc, c *[]api.Core) { d.Fonts, *c = d.Fonts[:1], (*c)[:1] }},
+		{api.OK, func(d *api.Doc, c *[]api.Core) {
+			third := (*c)[0]
+			third.Name = "e"
+			d.Fonts, *c = append(d.Fonts, api.Pin{Name: "e", Version: 1, Root: third.Root}), append(*c, third)
+		}},
 		{api.ErrMany, func(d *api.Doc, c *[]api.Core) { d.Fonts = make([]api.Pin, 4) }},
 		{api.ErrMany, func(d *api.Doc, c *[]api.Core) { d.Paras = make([]api.Para, 7); d.Fonts[0].Name = "" }},
 		{api.OK, func(d *api.Doc, c *[]api.Core) { d.Paras = slices.Repeat(d.Paras[:1], 6) }},

@@ -101,6 +101,12 @@ func TestAnswer(t *testing.T) {
 	if i := slices.IndexFunc(got, func(p api.Patch) bool { return p.Key == key(2, 0, 0) }); i < 0 || got[i].Base != key(2, 3, 0) {
 		t.Error("a difference that is shorter", got)
 	}
+	// The difference has six bytes, like the body itself: the patch is plain.
+	same := parse(t, "font a 7;axis w 0 0 64 0=0 64=64;region 0/64/64;char 64 1 9;glyph 1;anchor 1 0,0;delta 0 1 2,3 0,0;glyph 1;anchor 1 0,0;delta 0 1 2,3 0,0;")
+	got, _ = Answer(same, request(0, 64), []api.Key{key(3, 0, 0)})
+	if last := got[len(got)-1]; last.Key != key(3, 1, 0) || last.Base != (api.Key{}) || len(last.Body) != 6 {
+		t.Error("a difference that is not shorter", last)
+	}
 	without := f
 	without.Core.Root = ""
 	wrong := without

@@ -118,6 +118,9 @@ func TestApplyExamples(t *testing.T) {
 		{example(), 1, clusters, []bool{true, true}, []int{8, 2, 3}, 3}, {example(), 1, clusters, []bool{true, false}, []int{8, 2, 3}, 2}, {example(), 1, clusters, yes, []int{8, 2, 3}, 2}, {example(), 1, clusters, nil, []int{2, 3, 2, 3}, 0}, {example(), 1, nil, yes, nil, 0},
 		// The call at 0 takes away what it matches; the end moves back, so that the call at 1 finds nothing before it.
 		{[]api.Lookup{lookup(call(nil, set(1, 2), nil, api.Call{At: 0, Lookup: 1}, api.Call{At: 1, Lookup: 2})), lookup(rule(nil, set(1), nil)), lookup(rule(nil, set(3), nil, 9))}, 0, items(1, 2, 3), yes, []int{2, 3}, 3},
+		// A call that is not before the end does nothing, and those behind it are done all the same; so is one that matches nothing.
+		{[]api.Lookup{lookup(call(nil, set(1, 2), nil, api.Call{At: 0, Lookup: 1}, api.Call{At: 1, Lookup: 2}, api.Call{At: 0, Lookup: 3})), lookup(rule(nil, set(1), nil)), lookup(rule(nil, set(3), nil, 9)), lookup(rule(nil, set(2), nil, 8))}, 0, items(1, 2, 3), yes, []int{8, 3}, 4},
+		{[]api.Lookup{lookup(call(nil, set(1, 2), nil, api.Call{At: 0, Lookup: 1}, api.Call{At: 1, Lookup: 2})), lookup(rule(nil, set(7), nil)), lookup(rule(nil, set(2), nil, 9))}, 0, items(1, 2, 3), yes, []int{1, 9, 3}, 4},
 		// The first call makes more of it, so that the second one still finds its place.
 		{[]api.Lookup{lookup(call(nil, set(1), nil, api.Call{At: 0, Lookup: 1}, api.Call{At: 0, Lookup: 2})), lookup(rule(nil, set(1), nil, 5, 6)), lookup(rule(nil, set(5), nil, 7, 7, 7))}, 0, items(1, 1), yes, []int{7, 7, 7, 6, 7, 7, 7, 6}, 6},
 		// Beyond the end: what the call matched becomes the end, and the rule goes on behind it.

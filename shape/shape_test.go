@@ -67,6 +67,8 @@ func TestErrors(t *testing.T) {
 	none := api.Rule{In: [][]int{{50}}}
 	slow.Lookups[0].Rules = slices.Repeat([]api.Rule{none}, 8)
 	slow.Lookups, slow.Core.Heads = slices.Repeat(slow.Lookups[:1], 7), slices.Repeat(slow.Core.Heads[:1], 7)
+	ten := example()
+	ten.Lookups, ten.Core.Heads = slices.Repeat(slow.Lookups[:1], 10), slices.Repeat(slow.Core.Heads[:1], 10)
 	wrong := example()
 	wrong.Lookups[1].Rules[0].In = nil
 	grow := example()
@@ -78,7 +80,7 @@ func TestErrors(t *testing.T) {
 	}{
 		{less, long, api.ErrMany}, {less, "A", api.ErrRule}, {wrong, "A", api.ErrRule}, {grow, long[21:], api.OK}, {grow, long[20:], api.ErrMany}, {api.Font{}, "A", api.OK},
 		// 7 lookups of 8 rules: 56 tries for each item, 5992 for 107.
-		{slow, long[:107], api.OK}, {slow, long[:108], api.ErrWork}, {slow, long[:120], api.ErrWork},
+		{ten, long[:75], api.OK}, {ten, long[:76], api.ErrWork}, {slow, long[:107], api.OK}, {slow, long[:108], api.ErrWork}, {slow, long[:120], api.ErrWork},
 	} {
 		if got, e := Run(x.f, x.text, 0); e != x.want || e != api.OK && got != nil {
 			t.Errorf("call %d: %v", k, e)
