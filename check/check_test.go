@@ -64,6 +64,17 @@ func TestClosedExamples(t *testing.T) {
 }
 
 // P37.1
+func TestClosedSizes(t *testing.T) {
+	c, q, l, s := example()
+	for _, sizes := range [][2]int{{4, 4}, {32, 32}, {4, 32}} {
+		q.Sizes = sizes
+		if got := Closed(c, q, l, s); got != api.OK {
+			t.Errorf("sizes %v: %v", sizes, got)
+		}
+	}
+}
+
+// P37.1
 func TestClosedErrors(t *testing.T) {
 	for k, x := range []struct {
 		want   api.Errno

@@ -159,7 +159,7 @@ func TestExample(t *testing.T) {
 		font, version int
 		root          string
 		want          api.Errno
-	}{{0, 1, "12345678", api.ErrVersion}, {0, 0, "", api.ErrVersion}, {0, 1000, "12345678", api.ErrVersion}, {1, 2, "12345678", api.ErrArg}, {-1, 2, "12345678", api.ErrArg}, {0, 2, "1234567", api.ErrRoot}, {0, 2, "12345678", api.OK}, {0, 2, "12345678", api.ErrVersion}} {
+	}{{0, 1, "12345678", api.ErrVersion}, {0, 0, "", api.ErrVersion}, {0, 1000, "12345678", api.ErrVersion}, {1, 2, "12345678", api.ErrArg}, {-1, 2, "12345678", api.ErrArg}, {0, 2, "1234567", api.ErrRoot}, {0, 2, "12345678", api.OK}, {0, 2, "12345678", api.ErrVersion}, {0, 999, "12345678", api.OK}, {0, 1000, "12345678", api.ErrVersion}} {
 		if e := d.Move(x.font, x.version, x.root); e != x.want {
 			t.Errorf("Move of %v: %v", x, e)
 		}

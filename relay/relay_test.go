@@ -119,6 +119,9 @@ func TestExample(t *testing.T) {
 			t.Errorf("budget %d", n)
 		}
 	}
+	if New(3, 1) == nil {
+		t.Error("the least budget")
+	}
 	r := New(3, 1000)
 	p, q := example(5, "body"), example(5, "another body")
 	if r.Many() != 0 || r.Keep(p) != api.OK || r.Many() != 1 {
