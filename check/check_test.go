@@ -66,6 +66,7 @@ func TestClosedExamples(t *testing.T) {
 // P37.1
 func TestClosedSizes(t *testing.T) {
 	c, q, l, s := example()
+	q.Chars = []int{0, 65, 255}
 	for _, sizes := range [][2]int{{4, 4}, {32, 32}, {4, 32}} {
 		q.Sizes = sizes
 		if got := Closed(c, q, l, s); got != api.OK {
@@ -230,6 +231,7 @@ func TestCheckErrors(t *testing.T) {
 		{api.ErrRange, func(s *api.Seal) { s.Sizes[1] = 33 }},
 		{api.ErrRange, func(s *api.Seal) { s.Sizes = [2]int{9, 8} }},
 		{api.ErrRange, func(s *api.Seal) { s.Sizes = [2]int{9, 10} }},
+		{api.OK, func(s *api.Seal) { s.Sizes = [2]int{8, 8} }},
 		{api.ErrRange, func(s *api.Seal) { s.Sizes = [2]int{4, 7}; s.Parts[0].Font = 1 }},
 		{api.ErrAxis, func(s *api.Seal) { s.Axes[0] = nil; s.Sizes = [2]int{9, 10} }},
 		{api.ErrAxis, func(s *api.Seal) { s.Axes[0] = [][2]int{{4, 9}} }},
