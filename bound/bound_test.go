@@ -33,6 +33,8 @@ func program(s string) []api.Ins {
 // P13.1
 func TestProve(t *testing.T) {
 	full := strings.Repeat("push 1,", 16)
+	// 8 * (8 * 9 + 2) + 1 = 593 steps.
+	long := "loop 8, loop 8, push 1, pop, push 1, pop, push 1, pop, push 1, pop, end, end,"
 	one := [][4]int{{0, 0, 64, 128}}
 	two := [][4]int{{0, 0, 64, 128}, {5, 1000, 5, 2000}}
 	axis := [][2]int{{-64, 64}}
@@ -83,6 +85,14 @@ func TestProve(t *testing.T) {
 		{"push 0, push -1048513, move", [][4]int{{0, -64, 64, 128}}, nil, api.Bounds{}, api.ErrValue},
 		{"push 0, push 1048448, move", one, nil, api.Bounds{Stack: 2, Steps: 3}, api.OK},
 		{"push 0, push 1048449, move", one, nil, api.Bounds{}, api.ErrValue},
+		{"axis 0, neg, push -1048556, add", one, [][2]int{{-10, 20}}, api.Bounds{Stack: 2, Steps: 4}, api.OK},
+		{"axis 0, neg, push -1048557, add", one, [][2]int{{-10, 20}}, api.Bounds{}, api.ErrValue},
+		{"axis 0, neg, push 1048566, add", one, [][2]int{{-10, 20}}, api.Bounds{Stack: 2, Steps: 4}, api.OK},
+		{"axis 0, neg, push 1048567, add", one, [][2]int{{-10, 20}}, api.Bounds{}, api.ErrValue},
+		{long + strings.Repeat("push 1,", 7), one, nil, api.Bounds{Stack: 7, Steps: 600}, api.OK},
+		{long + strings.Repeat("push 1,", 7) + "pop", one, nil, api.Bounds{}, api.ErrSteps},
+		{"axis 0, push 0, less, at, push 1046576, add", two, axis, api.Bounds{Stack: 2, Steps: 6}, api.OK},
+		{"axis 0, push 0, less, at, push 1046577, add", two, axis, api.Bounds{}, api.ErrValue},
 		{"push 1, push 2, less, at", two, nil, api.Bounds{Stack: 2, Steps: 4}, api.OK},
 		{"push 1, push 2, less, at", one, nil, api.Bounds{}, api.ErrIndex},
 		{"push 2, push 2, less, at", one, nil, api.Bounds{Stack: 2, Steps: 4}, api.OK},

@@ -25,7 +25,7 @@ func TestTextsThatAreRead(t *testing.T) {
 	for k, s := range []string{
 		"font a 1;char 65 0 30;glyph 30;contour 0,0 10,0~ 5,20;program push 5 setx 1;",
 		"font a 1;lookup 5;rule | {0} {0,1} | {1} > 1;rule | {1} | call 0:1;lookup 9;rule | {1} | > 0 0;glyph 1;glyph 2;",
-		"font a 1;glyph 0;", "font a 999;region;region;glyph 0;", "font a 1;lookup 3;glyph 0;", "font a 1;glyph 3;hang 9 -128,128;", "font a 1;glyph 3;glyph 3;root 0000000000000000;",
+		"font a 1;glyph 0;", "font az09 1;glyph 0;", "font a 999;region;region;glyph 0;", "font a 1;lookup 3;glyph 0;", "font a 1;glyph 3;hang 9 -128,128;", "font a 1;glyph 3;glyph 3;root 0000000000000000;",
 	} {
 		f, n, e := Parse(lines(s))
 		if n != 0 || e != api.OK {
