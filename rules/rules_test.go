@@ -51,7 +51,7 @@ func TestCheck(t *testing.T) {
 		k, lookups, glyphs int
 		want               api.Errno
 	}{
-		{lookup(right), 0, 1, 3, api.OK}, {lookup(), 11, 12, 100, api.OK}, {lookup(nine...), 0, 0, 9, api.ErrArg}, {lookup(right), 0, 13, 9, api.ErrArg}, {lookup(right), -1, 1, 9, api.ErrArg}, {lookup(right), 1, 1, 9, api.ErrArg}, {lookup(right), 0, 1, 0, api.ErrArg}, {lookup(right), 0, 1, 101, api.ErrArg},
+		{lookup(rule(nil, set(0), nil, 0)), 0, 1, 1, api.OK}, {lookup(right), 0, 1, 3, api.OK}, {lookup(), 11, 12, 100, api.OK}, {lookup(nine...), 0, 0, 9, api.ErrArg}, {lookup(right), 0, 13, 9, api.ErrArg}, {lookup(right), -1, 1, 9, api.ErrArg}, {lookup(right), 1, 1, 9, api.ErrArg}, {lookup(right), 0, 1, 0, api.ErrArg}, {lookup(right), 0, 1, 101, api.ErrArg},
 		{lookup(nine...), 0, 1, 9, api.ErrMany}, {lookup(slices.Repeat([]api.Rule{right}, 8)...), 0, 1, 9, api.OK},
 		{lookup(rule(nil, nil, nil)), 0, 1, 9, api.ErrRule}, {lookup(rule(nil, set(1, 1, 1, 1), nil)), 0, 1, 9, api.OK}, {lookup(rule(nil, set(1, 1, 1, 1, 1), nil)), 0, 1, 9, api.ErrRule},
 		{lookup(rule(set(1, 1, 1), set(1), set(1, 1, 1))), 0, 1, 9, api.OK}, {lookup(rule(set(1, 1, 1, 1), set(1), nil)), 0, 1, 9, api.ErrRule}, {lookup(rule(nil, set(1), set(1, 1, 1, 1))), 0, 1, 9, api.ErrRule},

@@ -199,6 +199,8 @@ func TestFillExamples(t *testing.T) {
 	}{
 		{[][]api.Point{square(0, 128)}, api.Bitmap{Width: 2, Height: 2, Rows: []uint64{3, 3}}, api.OK},
 		{[][]api.Point{on(0, 0, 128, 0, 0, 128)}, api.Bitmap{Width: 1, Height: 1, Rows: []uint64{1}}, api.OK},
+		{[][]api.Point{square(10, 60)}, api.Bitmap{Width: 1, Height: 1, Rows: []uint64{1}}, api.OK},
+		{[][]api.Point{square(33, 60)}, api.Bitmap{}, api.OK},
 		{[][]api.Point{square(32, 96)}, api.Bitmap{Width: 1, Height: 1, Rows: []uint64{1}}, api.OK},
 		{[][]api.Point{off(0, 0, 128, 0, 128, 128, 0, 128)}, api.Bitmap{Width: 2, Height: 2, Rows: []uint64{3, 3}}, api.OK},
 		{[][]api.Point{square(0, 64), turned(square(0, 64))}, api.Bitmap{}, api.OK},

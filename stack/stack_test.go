@@ -125,6 +125,11 @@ func TestFailures(t *testing.T) {
 	if _, _, e := Run(program(long+strings.Repeat("size,pop,", 3)+"size,mul"), 4, nil, nil); e != api.ErrSteps {
 		t.Error("the step 601 fails otherwise, too", e)
 	}
+	for _, size := range []int{4, 32} {
+		if got, _, e := Run(program("size, setx 0"), size, nil, points()); e != api.OK || got[0][0] != size {
+			t.Errorf("size %d: %v %v", size, got, e)
+		}
+	}
 	for k, e := range []api.Errno{
 		errno(Run(nil, 3, nil, nil)), errno(Run(nil, 33, nil, nil)), errno(Run(nil, 4, []int{65}, nil)), errno(Run(nil, 4, make([]int, 4), nil)), errno(Run(nil, 4, nil, make([][2]int, 41))),
 		errno(Run(nil, 4, nil, [][2]int{{0, 1048577}})), errno(Run(program("if"), 4, nil, [][2]int{{-1048577, 0}})),
