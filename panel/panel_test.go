@@ -136,6 +136,9 @@ func TestPlan(t *testing.T) {
 	if Plan(old, next[:3], 8, 1) != nil || Plan(make([]uint64, 65), append(make([]uint64, 64), 1), 8, 1) != nil || Plan(next, next, 8, 1) != nil || Plan(nil, nil, 8, 1) != nil {
 		t.Error("nothing")
 	}
+	if got := Plan(make([]uint64, 64), append(make([]uint64, 63), 1<<63), 64, 1); !slices.Equal(got, []api.Rect{rect(63, 63, 1, 1)}) {
+		t.Error("64 rows", got)
+	}
 	// The loss of the first and of the last two is the same: the first two are joined.
 	three := rows(pixels{0}, nil, pixels{0}, nil, pixels{0})
 	if got := Plan(make([]uint64, 5), three, 64, 2); !slices.Equal(got, []api.Rect{rect(0, 0, 1, 3), rect(0, 4, 1, 1)}) {
