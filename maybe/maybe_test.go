@@ -166,6 +166,94 @@ func TestEnds(t *testing.T) {
 	}
 }
 
+// removing are lookups of which the first one calls the second one, and this one the third one, which removes three items.
+const removing = "lookup 0;rule {0} | {0} | {0} call 0:1;lookup 0;rule {0} | {0} | {0} call 0:2;lookup 0;rule {0} | {0} {0} {0} | {0} >;"
+
+// P1, P27.1, P27.2: the end of a rule that moves before the first item.
+func TestEndsBeforeTheFirstItem(t *testing.T) {
+	f := parse(t, "font a 1;"+removing+"char 64 0 8;char 96 0 8;glyph 8;glyph 8;")
+	all := []bool{true, true, true}
+	for _, x := range []struct {
+		lookups []int
+		text    string
+		items   []api.Item
+		certain []bool
+		misses  []int
+	}{
+		{[]int{0, 1, 2}, "@@``@", items([2]int{0, 0}, [2]int{0, 2}), all, nil},
+		{[]int{0, 1, 2}, "@@`@", items([2]int{0, 0}, [2]int{0, 1}, [2]int{0, 1}, [2]int{0, 2}), all, nil},
+		{[]int{0, 1, 2}, "@@``@``@", items([2]int{0, 0}, [2]int{0, 3}), []bool{true, true, true, true}, nil},
+		{[]int{0, 1}, "@@``@", nil, make([]bool, 3), []int{2}}, {[]int{0, 2}, "@@``@", nil, make([]bool, 3), []int{1}}, {[]int{1, 2}, "@@``@", nil, make([]bool, 3), []int{0}},
+	} {
+		k := with(t, f, x.lookups...)
+		got, certain := Run(k, x.text, 0)
+		if !slices.Equal(got, x.items) || !slices.Equal(certain, x.certain) || !slices.Equal(Misses(k, x.text, 0), x.misses) {
+			t.Errorf("%v, %q: %v %v %v", x.lookups, x.text, got, certain, Misses(k, x.text, 0))
+		}
+	}
+	// The lookup goes on at the first item, which a rule matches only now; the end is 0 in the first font, and -1 in the second one.
+	for k, x := range []struct {
+		ahead, out string
+		items      []api.Item
+	}{
+		{"{2} {0}", " 2", items([2]int{4, 0}, [2]int{2, 1}, [2]int{0, 2})},
+		{"{0}", "", items([2]int{4, 0}, [2]int{0, 2})},
+	} {
+		f := parse(t, "font a 1;lookup 0;rule | {3} | "+x.ahead+" > 4;rule | {1} | call 0:1;lookup 9;rule | {1} | call 0:2;lookup 9;rule | {1} {1} {1} | >"+x.out+";char 65 3 1;char 66 1 1;char 67 0 1;char 97 1 1;"+glyphs5)
+		if got, certain := Run(with(t, f, 0, 1, 2), "ABaaC", 0); !slices.Equal(got, x.items) || !slices.Equal(certain, all) {
+			t.Errorf("font %d: %v %v", k, got, certain)
+		}
+	}
+}
+
+// removingFont returns a right font whose lookups often call one another, and often remove items, with 6 lookups and 3 glyphs.
+func removingFont(t *testing.T, r *rand.Rand) api.Font {
+	set := func() string { return []string{"{0,1,2}", "{0,1}", "{1,2}", "{0}", "{1}", "{2}"}[r.Intn(6)] }
+	s := "font a 1;"
+	for k := range 6 {
+		s += fmt.Sprintf("lookup %d;", max(0, r.Intn(14)-4))
+		for range 1 + r.Intn(3) {
+			in := set() + strings.Repeat(" "+set(), r.Intn(3))
+			act := " >" + []string{"", "", " 1", " 0 2"}[r.Intn(4)]
+			if k < 5 && r.Intn(3) > 0 {
+				in, act = set(), fmt.Sprintf(" call 0:%d 0:%d", k+1+r.Intn(5-k), k+1+r.Intn(5-k))
+			}
+			s += "rule | " + in + " |" + []string{"", "", " " + set()}[r.Intn(3)] + act + ";"
+		}
+	}
+	for k, code := range []int{64, 65, 66, 97, 98} {
+		s += fmt.Sprintf("char %d %d 1;", code, (k+r.Intn(2))%3)
+	}
+	return parse(t, s+"glyph 1;glyph 1;glyph 1;")
+}
+
+// P1, P27.4, P27.6: ends that move back.
+func TestLookupsThatRemove(t *testing.T) {
+	r := rand.New(rand.NewSource(43))
+	some := []byte{64, 65, 66, 97, 98, 97, 98, 97, 98}
+	for range 4000 {
+		f := removingFont(t, r)
+		s := make([]byte, r.Intn(14))
+		for i := range s {
+			s[i] = some[r.Intn(len(some))]
+		}
+		text, features := string(s), r.Intn(1024)
+		want, e := shape.Run(f, text, features)
+		if e != api.OK && e != api.ErrWork && e != api.ErrMany {
+			t.Fatalf("%v: %v", s, e)
+		}
+		order := r.Perm(6)
+		k := with(t, f, order[:3]...)
+		if got, certain := Run(k, text, features); e == api.OK && slices.Contains(certain, false) != (len(Misses(k, text, features)) > 0) {
+			t.Fatalf("%v with %v: %v, %v", s, order[:3], got, certain)
+		}
+		k = with(t, f, order...)
+		if got, certain := Run(k, text, features); !slices.Equal(got, want) || e == api.OK == slices.Contains(certain, false) && len(s) > 0 {
+			t.Fatalf("%v with all lookups: %v, not %v", s, got, want)
+		}
+	}
+}
+
 // P27.1, P27.2
 func TestLimits(t *testing.T) {
 	var none *known.Known
