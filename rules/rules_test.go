@@ -139,6 +139,46 @@ func TestApplyExamples(t *testing.T) {
 	}
 }
 
+// calling returns a lookup of one rule, which has these calls.
+func calling(in [][]int, calls ...api.Call) api.Lookup { return lookup(call(nil, in, nil, calls...)) }
+
+// P16.4: calls of calls that remove items beyond the end of a rule, so that it moves before the place of the rule.
+func TestEndsThatMoveBack(t *testing.T) {
+	to := func(k int) api.Call { return api.Call{At: 0, Lookup: k} }
+	zero := set(0)
+	three := set(1, 1, 1)
+	for k, x := range []struct {
+		all      []api.Lookup
+		glyphs   []int
+		clusters []int
+		want     []api.Item
+		tries    int
+	}{
+		// The end is -1: the first item is tried again, and then the other one that is left.
+		{[]api.Lookup{lookup(call(zero, zero, zero, to(1))), lookup(call(zero, zero, zero, to(2))), lookup(rule(zero, set(0, 0, 0), zero))}, []int{0, 0, 0, 0, 0}, []int{0, 1, 1, 1, 2}, []api.Item{{Cluster: 0}, {Cluster: 2}}, 6},
+		// The end is -3, and 0.
+		{[]api.Lookup{calling(set(1), to(1)), calling(set(1), to(2)), lookup(rule(nil, set(1, 1, 1, 1), nil))}, []int{1, 1, 1, 1, 5}, make([]int, 5), items(5), 4},
+		{[]api.Lookup{calling(set(1), to(1)), calling(set(1), to(2)), lookup(rule(nil, three, nil, 5, 5))}, []int{1, 1, 1, 9}, make([]int, 4), items(5, 5, 9), 6},
+		// Before the place, behind the first item: what stands there is tried once more, and changes once more.
+		{[]api.Lookup{lookup(rule(nil, set(6), nil, 7), rule(nil, set(7), nil, 8), call(nil, set(1), nil, to(1))), calling(set(1), to(2)), lookup(rule(nil, three, nil, 5))}, []int{9, 6, 1, 1, 1}, []int{0, 1, 2, 2, 2}, []api.Item{{Glyph: 9}, {Glyph: 8, Cluster: 1}, {Glyph: 5, Cluster: 2}}, 14},
+		// The call behind such a one is not done: its place is not before the end.
+		{[]api.Lookup{calling(set(1, 1), api.Call{At: 1, Lookup: 1}, to(3)), calling(set(1), to(2)), lookup(rule(nil, three, nil)), lookup(rule(nil, set(1), nil, 8))}, []int{1, 1, 1, 1, 9}, make([]int, 5), items(1, 9), 5},
+		// The end of the rule that was called is before the first item, and becomes that of the one that calls it.
+		{[]api.Lookup{calling(set(1), to(1), to(3)), calling(set(1, 1), to(2)), calling(set(1), to(3)), lookup(rule(nil, three, nil))}, []int{1, 1, 1, 9}, make([]int, 4), items(9), 5},
+		// All items are gone.
+		{[]api.Lookup{calling(set(1), to(1)), calling(set(1), to(2)), lookup(rule(nil, three, nil))}, []int{1, 1, 1}, make([]int, 3), nil, 3},
+	} {
+		l := items(x.glyphs...)
+		for i, c := range x.clusters {
+			l[i].Cluster = c
+		}
+		got, tries, e := Apply(x.all, 0, l, []bool{true, true, true})
+		if e != api.OK || tries != x.tries || !slices.Equal(got, x.want) {
+			t.Errorf("call %d: %v, %d tries, %v", k, got, tries, e)
+		}
+	}
+}
+
 // P16.4
 func TestApplyErrors(t *testing.T) {
 	yes := []bool{true}
@@ -210,6 +250,45 @@ func randomLookups(r *rand.Rand) []api.Lookup {
 		all = append(all, l)
 	}
 	return all
+}
+
+// P16.4, P16.5: lookups that call one another, and remove items, but never make more of them, have no error.
+func TestLookupsThatRemove(t *testing.T) {
+	r := rand.New(rand.NewSource(44))
+	some := func(n int) (l [][]int) {
+		for range n {
+			l = append(l, [][]int{{0}, {1}, {0, 1}, {0, 1}}[r.Intn(4)])
+		}
+		return l
+	}
+	for range 20000 {
+		var all []api.Lookup
+		for k := range 4 {
+			x := rule(nil, some(1+r.Intn(4)), nil, slices.Repeat([]int{r.Intn(2)}, r.Intn(2))...)
+			if k < 3 && r.Intn(4) > 0 {
+				x = call(nil, some(1), nil, api.Call{Lookup: k + 1}, api.Call{Lookup: k + 1 + r.Intn(3-k)})
+			}
+			all = append(all, lookup(x))
+		}
+		var l []api.Item
+		for c := range 3 {
+			for range r.Intn(7) {
+				l = append(l, api.Item{Glyph: r.Intn(2), Cluster: c})
+			}
+		}
+		may := []bool{r.Intn(2) == 0, r.Intn(2) == 0, true}
+		got, _, e := Apply(all, 0, l, may)
+		if e != api.OK {
+			t.Fatalf("%v over %v: %v", all, l, e)
+		}
+		changes := func(i api.Item) bool { return may[i.Cluster] }
+		if !slices.Equal(slices.DeleteFunc(slices.Clone(got), changes), slices.DeleteFunc(slices.Clone(l), changes)) {
+			t.Fatalf("%v over %v: %v, and only %v may", all, l, got, may)
+		}
+		if !slices.IsSortedFunc(got, func(a, b api.Item) int { return a.Cluster - b.Cluster }) {
+			t.Fatalf("clusters of %v", got)
+		}
+	}
 }
 
 // P16.5, P16.6
